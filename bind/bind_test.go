@@ -66,6 +66,12 @@ func TestP6_1Lift(t *testing.T) {
 func TestP6_1Lower(t *testing.T) {
 	got, ok := Lower(term.Pi(term.App(v(0), v(3)), v(2)), 2)
 	is(t, "lower", got, ok, term.Pi(term.App(v(0), v(1)), v(0)))
+	got, ok = Lower(term.Lam(v(4), v(2)), 0)
+	is(t, "by none", got, ok, term.Lam(v(4), v(2)))
+	got, ok = Lift(term.Let(nat, nat, tower(1997)), 3, 0)
+	if !ok || term.Nodes(got) != 2000 {
+		t.Error("2000 nodes")
+	}
 	got, ok = Lower(v(1<<20), 1<<20)
 	is(t, "most", got, ok, v(0))
 	got, ok = Lower(term.Lam(v(0), nat), 5)

@@ -20,7 +20,7 @@ func world(t *testing.T) *env.Env {
 	e := sample.Entry
 	list := append(sample.NatEntries(), e("a", 0, "nat", ""), e("b", 0, "nat", ""), e("f", 0, "(> nat nat)", ""), e("g", 0, "(> nat nat)", ""), e("d", 0, "nat", "a"), e("id", 1, "(> (* u0) (> #0 #1))", "(\\ (* u0) (\\ #0 #0))"))
 	list = append(list, e("p", 0, "(* 0)", ""), e("q", 0, "(* 0)", ""), e("h1", 0, "p", ""), e("h2", 0, "p", ""), e("k", 0, "q", ""), e("r", 0, "(> nat (* 0))", ""), e("ra", 0, "(r a)", ""), e("rd", 0, "(r d)", ""), e("fun", 0, "(* 1)", "(> nat nat)"), e("ff", 0, "fun", ""), e("c", 1, "(> (* u0) nat)", ""), e("k2", 2, "(* 1)", ""))
-	list = append(list, e("loop", 0, "nat", "(f loop)"), e("pool", 0, "nat", "(f pool)"), e("x", 0, "y", "(* 0)"), e("y", 0, "x", "(* 0)"), e("hx", 0, "x", ""), e("two", 0, "(> nat (> nat nat))", ""))
+	list = append(list, e("loop", 0, "nat", "(f loop)"), e("pool", 0, "nat", "(f pool)"), e("x", 0, "y", "(* 0)"), e("y", 0, "x", "(* 0)"), e("hx", 0, "x", ""), e("two", 0, "(> nat (> nat nat))", ""), e("by", 0, "(> nat (> nat nat))", "(\\ nat (\\ nat #0))"))
 	v, err := env.New().Add(list...)
 	if err != api.OK {
 		t.Fatal(err)
@@ -70,6 +70,34 @@ func TestP14_1Type(t *testing.T) {
 		got, err := cv.Type(c.ctx, sample.Term(c.in))
 		if err != c.err || c.want != "" && text.Term(got) != c.want || c.used >= 0 && cv.Run().Used() != c.used || err != api.OK && !reflect.DeepEqual(got, api.Term{}) {
 			t.Error(i, c.in[:min(len(c.in), 40)], text.Term(got), err, cv.Run().Used())
+		}
+	}
+}
+
+// full: a term of so many nodes.
+func full(n int) api.Term {
+	s := "(f" + strings.Repeat(" a", (n-1)/2)
+	if n%2 == 0 {
+		s = s[:len(s)-2] + " (* 0)"
+	}
+	return sample.Term(s + ")")
+}
+
+// above: a level so many above another one.
+func above(n int, l string) string {
+	return strings.Repeat("(+ ", n) + l + strings.Repeat(")", n)
+}
+
+func TestP14_1Bounds(t *testing.T) {
+	for i, c := range []struct {
+		ctx []api.Term
+		in  string
+		err api.Errno
+	}{
+		{[]api.Term{full(1998)}, "(\\ nat #1)", 0}, {[]api.Term{full(1999)}, "(\\ nat #1)", api.ErrMany}, {nil, "(* " + above(62, "0") + ")", 0}, {nil, "(* " + above(63, "0") + ")", api.ErrMany}, {nil, "(> (* " + above(29, "u0") + ") (* " + above(30, "u1") + "))", 0}, {nil, "(> (* " + above(30, "u0") + ") (* " + above(30, "u1") + "))", api.ErrMany}, {nil, "(> (* " + above(30, "u0") + ") (* " + above(31, "u0") + "))", 0},
+	} {
+		if _, err := with(t, big).Type(c.ctx, sample.Term(c.in)); err != c.err || len(c.ctx) > 0 && term.Nodes(c.ctx[0]) < 1998 {
+			t.Error(i, err)
 		}
 	}
 }
@@ -130,6 +158,7 @@ var sameCases = []struct {
 	{"(* 0)", "(* 1)", false, -1}, {"(* (| u0 u1))", "(* (| u1 u0))", true, 1}, {"(@ k2 (| u0 u1) 0)", "(@ k2 (| u1 u0) 0)", true, 1}, {"(@ k2 u0 0)", "(@ k2 u1 0)", false, -1}, {"((@ c (| u0 u1)) nat)", "((@ c (| u1 u0)) nat)", true, 2}, {"((@ c u0) nat)", "((@ c u1) nat)", false, -1},
 	{"(> nat nat)", "(> nat nat)", true, 1}, {"(> (r d) nat)", "(> (r a) nat)", true, 5}, {"(> nat (r d))", "(> nat (r #0))", false, -1}, {"(> nat p)", "(> nat q)", false, -1}, {"(> nat nat)", "(\\ nat nat)", false, -1}, {"(\\ nat (f d))", "(\\ nat (f a))", true, 5}, {"(\\ nat #0)", "(\\ nat a)", false, -1}, {"(\\ nat #0)", "(\\ p #0)", false, -1},
 	{"(\\ nat (f #0))", "f", true, 2}, {"f", "(\\ nat (f #0))", true, 2}, {"(\\ nat (g #0))", "f", false, -1}, {"(\\ nat (\\ nat (two #1 #0)))", "two", true, 3}, {"(\\ nat (two #0 #0))", "(two a)", false, -1}, {"(* 0)", "(\\ nat nat)", false, -1},
+	{"(by d a)", "(by a d)", true, 5}, {"(by a b)", "(by b b)", true, -1}, {"(by a b)", "(by a d)", false, -1}, {"((@ nat.rec 1) (\\ nat nat) b (\\ nat (\\ nat #0)) a)", "((@ nat.rec 1) (\\ nat nat) ((@ nat.rec 1) (\\ nat nat) b (\\ nat (\\ nat #0)) a) (\\ nat (\\ nat #0)) nat.z)", true, -1},
 	{"h1", "h2", true, 10}, {"h1", "k", false, -1}, {"ra", "rd", true, 14}, {"h1", "a", false, -1}, {"a", "h1", false, 5}, {"(\\ nat h1)", "(\\ nat h2)", true, -1}, {"(= nat d h1)", "h2", true, 11}, {"((\\ nat (f #0)) a)", "(f d)", true, -1}, {"fun", "(> nat nat)", true, 4},
 	{"((@ nat.rec 1) (\\ nat nat) a (\\ nat (\\ nat #0)) (nat.s nat.z))", "a", true, -1}, {"((@ nat.rec 1) (\\ nat nat) a (\\ nat (\\ nat #0)) a)", "((@ nat.rec 1) (\\ nat nat) a (\\ nat (\\ nat #0)) d)", true, -1},
 }

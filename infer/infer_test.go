@@ -67,6 +67,24 @@ func TestP15_1Infer(t *testing.T) {
 	}
 }
 
+func TestP15_1Bounds(t *testing.T) {
+	above := func(n int, l string) string { return strings.Repeat("(+ ", n) + l + strings.Repeat(")", n) }
+	long := func(n int, last string) []api.Term {
+		return sample.Terms("(f" + strings.Repeat(" a", n) + " " + last + ")")
+	}
+	for i, c := range []struct {
+		ctx []api.Term
+		in  string
+		err api.Errno
+	}{
+		{long(997, "(* 0)"), "(\\ nat #1)", 0}, {long(998, "a"), "(\\ nat #1)", api.ErrMany}, {nil, "(* " + above(62, "0") + ")", 0}, {nil, "(* " + above(63, "0") + ")", api.ErrMany}, {nil, "(> (* " + above(29, "u0") + ") (* " + above(30, "u1") + "))", 0}, {nil, "(> (* " + above(30, "u0") + ") (* " + above(30, "u1") + "))", api.ErrMany},
+	} {
+		if _, err := with(t, big).Infer(c.ctx, sample.Term(c.in)); err != c.err {
+			t.Error(i, err)
+		}
+	}
+}
+
 func TestP15_1Form(t *testing.T) {
 	nat := sample.Term("nat")
 	for i, c := range []struct {

@@ -164,6 +164,9 @@ func TestP3_3Inst(t *testing.T) {
 	if got, ok := Inst(Max(u, u), []api.Level{tower(31)}); !ok || Nodes(got) != 63 {
 		t.Error(Nodes(got), ok)
 	}
+	if got, ok := Inst(Succ(Max(u, u)), []api.Level{tower(31)}); !ok || Nodes(got) != 64 {
+		t.Error("64 nodes", Nodes(got), ok)
+	}
 	for i, c := range []struct {
 		l  api.Level
 		by []api.Level

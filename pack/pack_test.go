@@ -129,6 +129,10 @@ func TestP8_1Formed(t *testing.T) {
 	if !Formed(eight) {
 		t.Error("eight constructors, four parameters")
 	}
+	eight.Fixed = 0
+	if !Formed(eight) {
+		t.Error("no parameters")
+	}
 }
 
 func TestP8_2Taken(t *testing.T) {
@@ -137,7 +141,7 @@ func TestP8_2Taken(t *testing.T) {
 		if !ok || !reflect.DeepEqual(l, level.Max(u, level.Num(100))) || string(rest) != tail {
 			t.Error(l, rest)
 		}
-		for _, x := range []api.Term{term.Var(1<<40 - 1), prop, term.Const("a.b", u, w), term.Let(nat, term.App(nat, nat), term.Pi(nat, nat)), tower(1999)} {
+		for _, x := range []api.Term{term.Var(1<<40 - 1), prop, term.Const("a.b", u, w), term.Let(nat, term.App(nat, nat), term.Pi(nat, nat)), tower(1999), term.Let(nat, nat, tower(1997))} {
 			b, _ := Term(x)
 			got, rest, ok := TakeTerm(append(b, tail...))
 			if !ok || !reflect.DeepEqual(got, x) || string(rest) != tail {
@@ -156,12 +160,12 @@ func TestP8_2Taken(t *testing.T) {
 
 func TestP8_2WrongBytes(t *testing.T) {
 	long := strings.Repeat("a", 41)
-	for _, s := range []string{"", "\x00", "\x06\x00", "\x01", "\x01\x65", "\x02\x04", "\x03", "\x04\x01\x00", "\x81\x00\x00", "\x01\x80\x00", strings.Repeat("\x03", 64) + "\x01\x00", strings.Repeat("\x03", 1<<20)} {
+	for _, s := range []string{"", "\x00", "\x06\x00", "\x01", "\x01\x65", "\x02\x04", "\x03", "\x04\x01\x00", "\x81\x00\x00", "\x01\x80\x00", strings.Repeat("\x03", 64) + "\x01\x00", strings.Repeat("\x03", 1<<23)} {
 		if l, rest, ok := TakeLevel([]byte(s)); ok || l.Kind != 0 || len(rest) != 0 {
 			t.Errorf("%.20q: %v", s, l)
 		}
 	}
-	for _, s := range []string{"", "\x00", "\x08\x00", "\x01", "\x01\x80\x80\x80\x80\x80\x20", "\x02", "\x02\x02\x04", "\x03\x00\x00", "\x03\x01A\x00", "\x03\x29" + long + "\x00", "\x03\x01a\x05\x01\x00\x01\x00\x01\x00\x01\x00\x01\x00", "\x03\x01a\xff\xff\xff\xff\xff\x1f", "\x03\x01a", "\x04\x01\x00", "\x07\x01\x00\x01\x00", strings.Repeat("\x04", 1<<20), "\x03\x81\x00a\x00"} {
+	for _, s := range []string{"", "\x00", "\x08\x00", "\x01", "\x01\x80\x80\x80\x80\x80\x20", "\x02", "\x02\x02\x04", "\x03\x00\x00", "\x03\x01A\x00", "\x03\x29" + long + "\x00", "\x03\x01a\x05\x01\x00\x01\x00\x01\x00\x01\x00\x01\x00", "\x03\x01a\xff\xff\xff\xff\xff\x1f", "\x03\x01a", "\x04\x01\x00", "\x07\x01\x00\x01\x00", strings.Repeat("\x04", 1<<23), "\x03\x81\x00a\x00"} {
 		if x, rest, ok := TakeTerm([]byte(s)); ok || x.Kind != 0 || len(rest) != 0 {
 			t.Errorf("%.20q: %v", s, x)
 		}

@@ -131,6 +131,9 @@ func TestP17_2Close(t *testing.T) {
 	if got, ok := Close(api.TPi, tower(998), l("a", "nat")); !ok || term.Nodes(got) != 1999 {
 		t.Error(ok)
 	}
+	if got, ok := Close(api.TPi, tower(998), l("a", "(* 0)")); !ok || term.Nodes(got) != 2000 {
+		t.Error("2000 nodes", ok)
+	}
 	if got, ok := Close(api.TPi, tower(998), l("a", "nat"), l("b", "nat")); ok || got.Kind != 0 {
 		t.Error("2001 nodes")
 	}

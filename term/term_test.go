@@ -108,7 +108,7 @@ func TestP4_1Loose(t *testing.T) {
 }
 
 func TestP4_1SameAndConsts(t *testing.T) {
-	list := []api.Term{Var(0), Var(1), zero, Sort(u), Sort(level.Max(u, u)), nat, Const("a"), Const("nat", u), Const("nat", level.Succ(u)), App(nat, Var(0)), App(Var(0), nat), App(nat, nat, nat), App(nat, App(nat, nat)), Lam(nat, nat), Pi(nat, nat), Let(nat, nat, nat), {}, {Name: "x"}}
+	list := []api.Term{Var(0), Var(1), zero, Sort(u), Sort(level.Max(u, u)), nat, Const("a"), Const("nat", u), Const("nat", level.Succ(u)), Const("nat", level.Succ(level.Param(1))), Sort(level.Max(u, level.Num(0))), App(nat, Var(0)), App(Var(0), nat), App(nat, nat, nat), App(nat, App(nat, nat)), Lam(nat, nat), Pi(nat, nat), Let(nat, nat, nat), {}, {Name: "x"}}
 	for i, a := range list {
 		for j, b := range list {
 			if Same(App(a), App(b)) != (i == j) {
@@ -150,10 +150,14 @@ func TestP4_2Levels(t *testing.T) {
 	if got, ok := Levels(many, []api.Level{level.Num(0)}); !ok || Nodes(got) != 95 {
 		t.Error(Nodes(got), ok)
 	}
+	full := Let(nat, Sort(level.Succ(u)), tower(1995))
+	if got, ok := Levels(full, []api.Level{level.Num(0)}); !ok || Nodes(got) != 2000 {
+		t.Error("2000 nodes", Nodes(got), ok)
+	}
 	for i, c := range []struct {
 		t  api.Term
 		by []api.Level
-	}{{Sort(u), nil}, {Sort(v), []api.Level{u}}, {nat, []api.Level{u, u, u, u, u}}, {Sort(u), []api.Level{{}}}, {Sort(level.Succ(u)), []api.Level{tall}}, {Sort(level.Succ(level.Param(3))), []api.Level{u, u, u, level.Succ(tall)}}, {many, []api.Level{tall}}} {
+	}{{full, []api.Level{level.Succ(level.Num(0))}}, {App(nat, Sort(level.Succ(u))), []api.Level{tall}}, {Sort(u), nil}, {Sort(v), []api.Level{u}}, {nat, []api.Level{u, u, u, u, u}}, {Sort(u), []api.Level{{}}}, {Sort(level.Succ(u)), []api.Level{tall}}, {Sort(level.Succ(level.Param(3))), []api.Level{u, u, u, level.Succ(tall)}}, {many, []api.Level{tall}}} {
 		if got, ok := Levels(c.t, c.by); ok || !reflect.DeepEqual(got, api.Term{}) {
 			t.Error(i, got, ok)
 		}
@@ -197,6 +201,9 @@ func TestP4_3Arrow(t *testing.T) {
 		t.Error("2001 nodes", Nodes(got))
 	}
 	if got, ok := Arrow(nat, tower(1997)); !ok || Nodes(got) != 1999 {
+		t.Error(Nodes(got), ok)
+	}
+	if got, ok := Arrow(zero, tower(1997)); !ok || Nodes(got) != 2000 {
 		t.Error(Nodes(got), ok)
 	}
 	if _, ok := Arrow(nat, slices.Repeat([]api.Term{nat}, 1<<20)...); ok {

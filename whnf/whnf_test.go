@@ -161,7 +161,7 @@ func TestP13_2FuelAndMany(t *testing.T) {
 		{"d", 0, api.ErrFuel, 0}, {"d", 1, api.OK, 1}, {"a", 0, api.OK, 0}, {"((@ nat.rec 0) a a a d)", 0, api.ErrFuel, 0}, {"((@ nat.rec 0) a a a d)", 1, api.OK, 1}, {"((@ nat.rec 0) a a a nat.z)", 0, api.ErrFuel, 0}, {"((@ nat.rec 0) a a a ((\\ nat nat.z) a))", 1, api.ErrFuel, 1},
 		{"((\\ nat (#0 #0)) " + wide(499, "a") + ")", 9, api.OK, 1}, {"((\\ nat (#0 #0)) " + wide(500, "a") + ")", 9, api.ErrMany, 1}, {"((\\ nat (#0 #0)) " + wide(500, "a") + ")", 0, api.ErrFuel, 0},
 		{"((\\ nat (#0 #0)) " + wide(300, "a") + strings.Repeat(" a", 398) + ")", 9, api.OK, 1}, {"((\\ nat (#0 #0)) " + wide(300, "a") + strings.Repeat(" a", 399) + ")", 9, api.ErrMany, 1},
-		{"((@ nat.rec 0) a a a ((\\ nat (#0 #0)) " + wide(500, "a") + "))", 9, api.ErrMany, 1}, {"((@ id " + strings.Repeat("(+ ", 63) + "0" + strings.Repeat(")", 63) + ") a)", 9, api.OK, 1},
+		{"((\\ nat (#0 #0)) " + wide(300, "a") + strings.Repeat(" a", 397) + " (* 0))", 9, api.OK, 1}, {"((@ nat.rec 0) a a a ((\\ nat (#0 #0)) " + wide(500, "a") + "))", 9, api.ErrMany, 1}, {"((@ id " + strings.Repeat("(+ ", 63) + "0" + strings.Repeat(")", 63) + ") a)", 9, api.OK, 1},
 	} {
 		r := run(t, c.fuel)
 		got, kind, err := r.Step(sample.Term(c.in))
@@ -227,6 +227,9 @@ func TestP13_3Nf(t *testing.T) {
 		if got, err := r.Nf(sample.Term(c.in)); err != c.err || r.Used() != c.used || err != api.OK && !reflect.DeepEqual(got, api.Term{}) {
 			t.Error(i, err, r.Used())
 		}
+	}
+	if full := "(f" + strings.Repeat(" a", 998) + " (* 0))"; text.Term(mustNf(t, full)) != full {
+		t.Error("2000 nodes")
 	}
 	if text.Term(mustNf(t, "(d d)")) != "(a a)" {
 		t.Error("head")
