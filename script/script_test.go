@@ -117,16 +117,25 @@ func TestP26_3Say(t *testing.T) {
 			t.Errorf("%d: %q", i, got)
 		}
 	}
-	for _, b := range []string{"", "\x01", "\x01\x01", "\x01\x00\x00", "\x63"} {
-		if got := Say([]byte(b)); got != "" {
-			t.Errorf("%q: %q", b, got)
-		}
-	}
-	if Say([]byte("\x04\x00"+"\x01\x05")) != "ask 0 #5" || Say(nil) != "" {
+	if Say([]byte("\x04\x00"+"\x01\x05")) != "ask 0 #5" {
 		t.Error("ask")
 	}
 	if _, ok := serve.Encode(serve.Request{Kind: serve.RAsk, Term: term.Var(1 << 40)}); ok {
 		t.Error("far")
+	}
+}
+
+func TestP26_3SayNone(t *testing.T) {
+	for i, b := range [][]byte{nil, {}, {0}, {0, 0}, {1}, {1, 1}, {1, 0, 0}, {2, 0}, {3}, {3, 2, 1}, {3, 2, 1, 'a', 'b'}, {4, 0}, {4, 0, 0}, {5}, {8, 1}, {10, 0}, {255}, {0x63}, {0x81, 0, 0}, []byte("none")} {
+		keep := bytes.Clone(b)
+		if got := Say(b); got != "none" || !bytes.Equal(b, keep) {
+			t.Errorf("%d: %q", i, got)
+		}
+	}
+	for b, want := range map[string]string{"\x01\x00": "open", "\x03\x02\x01a": "look 2 a", "\x03\x00\x04none": "look 0 none", "\x05\x07": "commit 7", "\x08\x00": "sweep"} {
+		if got := Say([]byte(b)); got != want {
+			t.Errorf("%q: %q", b, got)
+		}
 	}
 }
 
